@@ -1,0 +1,1 @@
+"""Emptypulls: what it costs that a trailer is there whenever a load comes."""
