@@ -3,7 +3,11 @@
 import unittest
 
 from emptypulls import errors
+from emptypulls.depots import Depot
+from emptypulls.known import Known, Rings
+from emptypulls.orders import Rising
 from emptypulls.rates import Rate
+from emptypulls.stands import Stand
 from emptypulls.tours import Tour
 from emptypulls.trips import Trip
 
@@ -21,11 +25,14 @@ FIELDS = {
 
 def any_values():
     """Fresh values of all the kinds that the document calls any value."""
+    both = Tour.there_and_back("a", "b")
     return [
         None, True, False, 0, 1, -1, 2, 10 ** 59, -10 ** 59, "", "a", "b", "A", "a b", " ", "a\n",
         "1", "-", "a>b 1", "abcdefghi", "x" * 3000, (), ("a",), (1, 2), [], ["a"], [1, [2, {}]],
         {}, {"a": 1}, {1: "a", (1, None): [2]}, nested(20), Rate(1), Rate(1, 2), Trip("a", "b"),
-        Tour.there_and_back("a", "b"), errors.BadRate("top"), errors.NoDeed(), [Rate(1)],
+        both, errors.BadRate("top"), errors.NoDeed(), [Rate(1)], Stand({}), Stand({"a": 1}), [Stand({})],
+        Depot(both, Stand({"a": 1})), Rising(1, ("a", "b"), {(): 0}), Known(Rate(1), (0, 1), ("load",), {}),
+        Rings(1, None, [both]), (True,), [False, False], {"a": True}, {"a": -1}, {"A": 1}, {True: 1},
     ]
 
 
@@ -43,7 +50,7 @@ def same(one, other):
     if isinstance(one, (list, tuple)):
         return len(one) == len(other) and all(map(same, one, other))
     if isinstance(one, dict):
-        return list(one) == list(other) and all(same(one[key], other[key]) for key in one)
+        return same(sorted(one, key=repr), sorted(other, key=repr)) and all(same(one[key], other[key]) for key in one)
     return one == other
 
 

@@ -33,6 +33,45 @@ raises Unbalanced('a')
 >>> Tour.read("a>b 5 b>a 1")
 raises BadText(0, 1)
 '''
+STANDS = '''
+>>> from emptypulls.stands import Stand, is_safe, need, place_of, placings, spares, stranding
+>>> two = Stand({"a": 1, "b": 1, "c": 0})
+>>> [str(two), two["b"], two["c"], two.whole, str(two + two), Stand({"a": 1}) <= two, str(two.moved("a", "b")), str(Stand({}))]
+['a 1, b 1', 1, 0, 2, 'a 2, b 2', True, 'b 2', '-']
+>>> [str(need(both)), str(need(both >> 1)), str(need(both + both)), str(need(both * 2 >> 1)), str(need(both | both)), str(spares(both, two))]
+['a 1', 'b 1', 'a 1', 'b 1', 'a 2', 'b 1']
+>>> [stranding(both, Stand({"b": 2})), stranding(both | both, two), is_safe(ring, two), [place_of(ring, one) for one in placings(ring, 1)]]
+[(True,), (True, True), True, [(0, 0, 1), (0, 1, 0), (1, 0, 0)]]
+>>> Stand.read("b 1, a 2")
+raises BadText(0, 2)
+'''
+DEPOTS = '''
+>>> from emptypulls.depots import Depot
+>>> depot = Depot(both, two)
+>>> [depot.drive("load"), str(depot.stand_now), depot.fair_words(), depot.drive("pull"), depot.laps, depot.paid]
+[0, 'b 2', ('load', 'pull'), 1, 1, 1]
+>>> [depot.fair_words(), depot.run("leave", "leave"), str(depot.stand_now), str(depot.spares_now()), depot.driven[2:]]
+[('load', 'pull', 'leave'), 0, 'a 1, b 1', 'b 1', ('leave', 'leave')]
+>>> depot["a"] = 0
+>>> [depot["b"], depot.fair_words(), depot.undo(), depot.undo(), depot.next_index, depot.deeds]
+[1, ('leave',), 'put', 'run', 0, 2]
+>>> depot.run("load", "leave", "load")
+raises LeftStanding(0)
+'''
+ORDERS = '''
+>>> from emptypulls.orders import best_orders, common_order, down, greatest_rising, loads_of, rising
+>>> [rising(ring, ("c", "a", "b")), down(ring, ["a", "b", "c"]), loads_of(both, ("b", "a")), greatest_rising(both).order, greatest_rising(star).number]
+[2, (2,), (True, False), ('a', 'b'), 2]
+>>> [list(best_orders(ring)), common_order(ring, ~ring), greatest_rising(ring + ~ring).number, greatest_rising(ring).marks[("a", "c")]]
+[[('a', 'b', 'c'), ('b', 'c', 'a'), ('c', 'a', 'b')], None, 3, 1]
+'''
+KNOWN = '''
+>>> from emptypulls.known import endless_price, known_price
+>>> [str(known_price(both, [False, False], n).rate) for n in (0, 1)]
+['6', '0']
+>>> [str(endless_price(both, [False, False]).rate), endless_price(both, [False, False]).left, str(endless_price(ring, (False, False, True)).rate), str(known_price(ring, [False, False, False], 1).rate)]
+['0', (0, 1), '2', '3/2']
+'''
 
 
 def steps_of(text):
@@ -64,7 +103,7 @@ class ExampleTest(Case):
                     self.assertEqual(repr(eval(code, self.names)), answer)
 
     def test_all_in_the_order_of_the_document(self):
-        for text in (RATES, TRIPS, TOURS):
+        for text in (RATES, TRIPS, TOURS, STANDS, DEPOTS, ORDERS, KNOWN):
             self.look(text)
 
 

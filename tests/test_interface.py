@@ -4,15 +4,19 @@ import importlib
 import inspect
 import unittest
 
-from checks import FIELDS, Case
+from checks import FIELDS, Case, any_values
+from emptypulls.depots import Depot
+from emptypulls.known import Known, Rings
+from emptypulls.orders import Rising
 from emptypulls.rates import Rate
+from emptypulls.stands import Stand
 from emptypulls.tours import Tour
 from emptypulls.trips import Trip
 
 OPERATORS = {"+": "__add__", "-": "__sub__", "*": "__mul__", "|": "__or__", ">>": "__rshift__", "neg": "__neg__",
              "~": "__invert__", "==": "__eq__", "<": "__lt__", "<=": "__le__", ">": "__gt__", ">=": "__ge__",
              "bool": "__bool__", "str": "__str__", "len": "__len__", "iter": "__iter__", "in": "__contains__",
-             "[]": "__getitem__", "+ r": "__radd__", "- r": "__rsub__", "* r": "__rmul__"}
+             "[]": "__getitem__", "[] =": "__setitem__", "+=": "__iadd__", "+ r": "__radd__", "- r": "__rsub__", "* r": "__rmul__"}
 LISTED = {
     ("rates", "Rate"): {
         "made": ["top", "bottom"], "properties": ["top", "bottom"], "attributes": [],
@@ -28,8 +32,40 @@ LISTED = {
         "methods": {"renamed": ["names"], "priced": ["prices"]}, "classes": {"read": ["text"]},
         "statics": {"there_and_back": ["one", "other", "price", "back"], "around": ["yards"]},
         "operators": ["+", "|", "*", "* r", "~", ">>", "==", "str", "len", "iter", "in", "[]"]},
+    ("stands", "Stand"): {
+        "made": ["numbers"], "properties": ["whole"], "attributes": [],
+        "methods": {"moved": ["start", "goal"]}, "classes": {"read": ["text"]}, "statics": {},
+        "operators": ["+", "-", "<=", "==", "str", "bool", "len", "iter", "in", "[]"]},
+    ("depots", "Depot"): {
+        "made": ["tour", "stand", "index", "paid"],
+        "properties": ["stand_now", "next_index", "laps", "paid", "driven", "deeds", "tour_now"], "attributes": [],
+        "methods": {"drive": ["word"], "run": ["words"], "put": ["yard", "many"], "drop": ["yard"],
+                    "set_tour": ["tour"], "spares_now": [], "fair_words": [], "undo": [], "trial": [],
+                    "tried": ["work"], "twin": []},
+        "classes": {}, "statics": {}, "operators": ["+=", "==", "in", "[]", "[] ="]},
+    ("orders", "Rising"): {
+        "made": ["number", "order", "marks"], "properties": [], "attributes": ["number", "order", "marks"],
+        "methods": {}, "classes": {}, "statics": {}, "operators": ["=="]},
+    ("known", "Known"): {
+        "made": ["rate", "start", "words", "heights"], "properties": [],
+        "attributes": ["rate", "start", "words", "heights"],
+        "methods": {}, "classes": {}, "statics": {}, "operators": ["=="]},
+    ("known", "Rings"): {
+        "made": ["rate", "left", "heights"], "properties": [], "attributes": ["rate", "left", "heights"],
+        "methods": {}, "classes": {}, "statics": {}, "operators": ["=="]},
 }
-MADE = {"Rate": Rate(1, 2), "Trip": Trip("a", "b"), "Tour": Tour.there_and_back("a", "b")}
+FUNCTIONS = {
+    "stands": {"need": ["tour"], "is_safe": ["tour", "stand"], "spares": ["tour", "stand"],
+               "stranding": ["tour", "stand"], "placings": ["tour", "number"], "place_of": ["tour", "stand"]},
+    "orders": {"rising": ["tour", "order"], "down": ["tour", "order"], "loads_of": ["tour", "order"],
+               "greatest_rising": ["tour"], "best_orders": ["tour"], "common_order": ["one", "other"]},
+    "known": {"known_price": ["tour", "loads", "number"], "endless_price": ["tour", "loads"]},
+}
+GENERATORS = ["placings", "best_orders"]
+BOTH = Tour.there_and_back("a", "b")
+MADE = {"Rate": Rate(1, 2), "Trip": Trip("a", "b"), "Tour": BOTH, "Stand": Stand({"a": 1}),
+        "Depot": Depot(BOTH, Stand({"a": 1})), "Rising": Rising(1, 2, 3), "Known": Known(1, 2, 3, 4),
+        "Rings": Rings(1, 2, 3)}
 
 
 def listed():
@@ -42,6 +78,15 @@ class InterfaceTest(Case):
         for file, made, _ in listed():
             self.assertEqual(made.__module__, f"emptypulls.{file}")
         self.assertEqual(len(FIELDS), 22)
+
+    def test_each_function_is_defined_in_its_file(self):
+        for file, functions in FUNCTIONS.items():
+            for name, parameters in functions.items():
+                found = getattr(importlib.import_module(f"emptypulls.{file}"), name)
+                self.assertTrue(inspect.isfunction(found), name)
+                self.assertEqual(found.__module__, f"emptypulls.{file}")
+                self.assertEqual(list(inspect.signature(found).parameters), parameters, name)
+                self.assertEqual(inspect.isgeneratorfunction(found), name in GENERATORS, name)
 
     def test_each_member_is_defined_in_its_class_as_the_kind_that_is_told(self):
         for _, made, told in listed():
@@ -83,6 +128,38 @@ class InterfaceTest(Case):
             with self.assertRaises(ValueError):
                 work()
             self.assertEqual([str(rate), str(trip), str(tour), tour.yards], before)
+
+    def test_no_function_changes_its_arguments(self):
+        for functions in FUNCTIONS.values():
+            for name, parameters in functions.items():
+                for told in ([tour, stand, order, loads, number, other]
+                             for tour in (BOTH, None) for stand in (Stand({"a": 1}), Stand({}), Stand({"z": 1}))
+                             for order in (["b", "a"], ["b"]) for loads in ([True, False], [True, 1])
+                             for number in (1, 7) for other in (~BOTH, Tour.around("a", "b", "c"))):
+                    self.look_at(name, parameters, *told)
+
+    def look_at(self, name, parameters, *told):
+        kept = dict(zip(("tour", "stand", "order", "loads", "number", "other"), told), one=told[0])
+        before = {key: str(value) for key, value in kept.items()}
+        function = next(getattr(importlib.import_module(f"emptypulls.{file}"), name)
+                        for file, functions in FUNCTIONS.items() if name in functions)
+        answers = []
+        for _ in range(2):
+            try:
+                answer = function(**{parameter: kept[parameter] for parameter in parameters})
+                answers.append(list(answer) if name in GENERATORS else answer)
+            except ValueError as error:
+                answers.append([type(error), vars(error)])
+        self.assertEqual(answers[0], answers[1])
+        self.assertEqual({key: str(value) for key, value in kept.items()}, before)
+
+    def test_an_object_equals_what_is_told_of_its_class_and_nothing_else(self):
+        for made in MADE.values():
+            for value in any_values():
+                if type(value) is not type(made) and not (isinstance(made, Rate) and type(value) is int):
+                    self.assertIs(made == value, False)
+                    self.assertIs(value == made, False)
+                    self.assertIs(made != value, True)
 
 
 if __name__ == "__main__":

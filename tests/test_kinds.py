@@ -1,8 +1,15 @@
 import unittest
 
-from checks import Case, any_values
+from checks import Case, any_values, same
 from emptypulls.digits import digits_of, is_digits, number_text, read_digits
-from emptypulls.kinds import copied, is_integer, is_integer_within, is_name
+from emptypulls.depots import Depot
+from emptypulls.errors import BadName, NoDeed
+from emptypulls.kinds import Twinned, are_same, copied, is_integer, is_integer_within, is_name
+from emptypulls.known import Known, Rings
+from emptypulls.orders import Rising
+from emptypulls.rates import Rate
+from emptypulls.stands import Stand
+from emptypulls.tours import Tour
 
 
 class KindTest(Case):
@@ -28,6 +35,50 @@ class KindTest(Case):
             self.assertNotEqual(made, value)
             inner.pop()
             self.assert_same(made, value)
+
+    def test_copies_of_objects_that_change_go_their_own_way(self):
+        depot = Depot(Tour.there_and_back("a", "b"), Stand({"a": 1}))
+        for value in (depot, [depot], {"a": (depot,)}):
+            made = copied(value)
+            self.assertEqual(made, value)
+            depot.drive("leave")
+            self.assertNotEqual(made, value)
+            depot.undo()
+            self.assertEqual(made, value)
+        paper = Rising(depot, 1, 2)
+        depot.drive("leave")
+        self.assertNotEqual(paper, Rising(depot, 1, 2))
+        for paper in (Rising(1, 2, {}), Known(1, 2, 3, {}), Rings(1, 2, {})):
+            made = copied([paper])
+            table = paper.marks if isinstance(paper, Rising) else paper.heights
+            table["a"] = 1
+            self.assertNotEqual(made, [paper])
+            table.clear()
+            self.assertEqual(made, [paper])
+        for value in (Rate(1), Stand({}), Tour.around("a", "b"), BadName([1]), NoDeed()):
+            self.assertIs(copied(value), value)
+
+    def test_each_class_has_a_twin_of_its_own(self):
+        with self.assertRaises(NotImplementedError):
+            Twinned().twin()
+        for made in (Rising, Known, Rings, Depot):
+            self.assertIn("twin", vars(made))
+
+    def test_equal_values_in_their_kinds(self):
+        for one in any_values():
+            for other in any_values():
+                # Errors equal themselves alone, and a Rate may equal an integer.
+                if not isinstance(one, Exception) and not isinstance(one, Rate) and not isinstance(other, Rate):
+                    self.assertIs(are_same(one, other), same(one, other), f"{one!r} {other!r}")
+        self.assertIs(are_same(Rate(1), 1), True)
+        self.assertIs(are_same(Rate(1), True), False)
+        self.assertIs(are_same([1, (2, {"a": [3]})], [1, (2, {"a": [3]})]), True)
+        for one, other in ((True, 1), (False, 0), ([True], [1]), ((1,), [1]), ({"a": True}, {"a": 1}), ([1], [1, 2]),
+                           ({True: 2}, {1: 2}), ({(1, False): 2}, {(1, 0): 2}), ({"a": 1}, {"b": 1}), ({}, []),
+                           ({"a": 1}, {"a": 1, "b": 2}), ("1", 1), (None, False), ([], ()), (((True,),), ((1,),))):
+            self.assertIs(are_same(one, other), False, f"{one!r} {other!r}")
+            self.assertIs(are_same(other, one), False, f"{one!r} {other!r}")
+        self.assertIs(are_same({"a": 1, "b": [2]}, {"b": [2], "a": 1}), True)
 
 
 class DigitsTest(Case):

@@ -46,6 +46,30 @@ def nodes(*kinds):
                 yield path.name, node
 
 
+def called_name(node):
+    return node.func.id if isinstance(node, ast.Call) and isinstance(node.func, ast.Name) else ""
+
+
+def is_plain(node):
+    """Whether an expression surely is a number or a string."""
+    if isinstance(node, ast.BinOp):
+        return is_plain(node.left) and is_plain(node.right)
+    return isinstance(node, (ast.Constant, ast.JoinedStr)) or called_name(node) in ("len", "int", "ord", "str", "repr")
+
+
+def assigned_attributes():
+    return {node.attr for _, node in nodes(ast.Attribute) if isinstance(node.ctx, ast.Store)}
+
+
+def functions_with(*kinds):
+    """The names of the functions that have nodes of these kinds directly, not in a nested function."""
+    return {node.name for _, node in nodes(ast.FunctionDef) if any(isinstance(part, kinds) for part in ast.walk(node))}
+
+
+def position(name, node):
+    return name, node.lineno, node.col_offset, node.end_col_offset
+
+
 def docstrings():
     found = set()
     for _, node in nodes(ast.Module, ast.ClassDef, ast.FunctionDef):
@@ -164,6 +188,68 @@ class NamesTest(unittest.TestCase):
             for part in node.args:
                 if called in ("any", "all", "min", "max", "sum", "sorted"):
                     self.assertNotIsInstance(part, ast.GeneratorExp, f"{name}:{node.lineno}")
+
+    def test_only_plain_values_are_ordered(self):
+        for name, node in nodes(ast.Call):
+            if called_name(node) in ("sorted", "min", "max"):
+                first = node.args[0]
+                plain = [is_plain(part) for part in node.args]
+                told = any(plain) if len(plain) > 1 else isinstance(first, ast.ListComp) and is_plain(first.elt)
+                self.assertTrue(told or called_name(first) == "range", f"{name}:{node.lineno}")
+
+    def test_no_assignment_in_place(self):
+        for name, node in nodes(ast.AugAssign):
+            self.fail(f"{name}:{node.lineno}: a class has an operator in place")
+
+    def test_what_is_iterated_and_measured_bars_products(self):
+        for name, node in nodes(ast.ImportFrom):
+            self.assertNotIn(node.module, ("itertools", "heapq"), f"{name}:{node.lineno}")
+
+    def test_a_class_with_items_is_iterated_over_in_one_statement(self):
+        for name, node in nodes(ast.ClassDef):
+            own = {part.name: part for part in node.body if isinstance(part, ast.FunctionDef)}
+            if "__getitem__" in own:
+                self.assertEqual(len(own["__iter__"].body), 1, f"{name}: {node.name}")
+
+    def test_the_end_of_a_block_only_gives_back_attributes(self):
+        for name, node in nodes(ast.FunctionDef):
+            if node.name == "__exit__":
+                for part in node.body:
+                    self.assertIsInstance(part, ast.Assign, f"{name}:{part.lineno}")
+                    self.assertIsInstance(part.value, ast.Attribute, f"{name}:{part.lineno}")
+
+    def test_generators_are_iterated_at_once(self):
+        generators = functions_with(ast.Yield, ast.YieldFrom)
+        self.assertTrue(generators)
+        names = [node.name for _, node in nodes(ast.FunctionDef)]
+        told = {position(name, node.iter) for name, node in nodes(ast.For, ast.comprehension)}
+        for name, node in nodes(ast.Call):
+            if called_name(node) in ("list", "tuple", "dict", "sorted", "sum", "any", "all"):
+                told.update(position(name, part) for part in node.args)
+        for name, node in nodes(ast.Call):
+            if called_name(node) in generators:
+                self.assertEqual(names.count(called_name(node)), 1)
+                self.assertTrue(position(name, node) in told, f"{name}:{node.lineno}")
+                for part in node.args:
+                    self.assertIsInstance(part, (ast.Name, ast.Attribute, ast.Constant), f"{name}:{node.lineno}")
+
+    def test_no_name_is_a_method_and_an_attribute(self):
+        assigned = assigned_attributes()
+        for name, node in nodes(ast.ClassDef):
+            for part in node.body:
+                setter = any(isinstance(mark, ast.Attribute) for mark in getattr(part, "decorator_list", []))
+                if isinstance(part, ast.FunctionDef) and not setter:
+                    self.assertNotIn(part.name, assigned, f"{name}: {node.name}.{part.name}")
+
+    def test_variables_hide_no_class_and_no_import(self):
+        for path, tree in trees():
+            told = {alias.name for node in tree.body if isinstance(node, ast.ImportFrom) for alias in node.names}
+            told |= {node.name for node in tree.body if isinstance(node, (ast.ClassDef, ast.FunctionDef))}
+            for node in ast.walk(tree):
+                if isinstance(node, ast.arg):
+                    self.assertNotIn(node.arg, told, f"{path.name}:{node.lineno}")
+                elif isinstance(node, ast.Name) and isinstance(node.ctx, ast.Store):
+                    self.assertNotIn(node.id, told, f"{path.name}:{node.lineno}")
 
     def test_module_level(self):
         plain = (ast.ImportFrom, ast.FunctionDef, ast.ClassDef, ast.Assign, ast.Expr)

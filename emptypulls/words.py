@@ -1,0 +1,7 @@
+"""The words for what a driver does at a trip."""
+
+LOAD = "load"
+PULL = "pull"
+LEAVE = "leave"
+# In the order in which the document lists them.
+WORDS = (LOAD, PULL, LEAVE)
