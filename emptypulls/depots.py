@@ -4,7 +4,7 @@ from emptypulls.arguments import check_tour
 from emptypulls.errors import BadCount, BadTour, BadWord, NoDeed, NoYard
 from emptypulls.kinds import Twinned, is_integer, is_integer_within
 from emptypulls.progress import Progress
-from emptypulls.stands import check_stand, spares
+from emptypulls.stands import check_stand, spares_at
 from emptypulls.words import WORDS
 
 
@@ -142,11 +142,11 @@ class Depot(Twinned):
 
     def spares_now(self):
         """The spares ahead of the next trip."""
-        return spares(self._now.tour >> self._now.index, self._now.stand)
+        return spares_at(self._now.tour, self._now.index, self._now.stand)
 
     def fair_words(self):
         """The words that can be driven next and behind which the stand is safe."""
-        return tuple([word for word in WORDS if self._now.is_well_behind(word)])
+        return self._now.fair_words()
 
     def undo(self):
         """Takes back the last deed and returns its word."""

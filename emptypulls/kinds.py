@@ -1,6 +1,5 @@
 """Checks of the kinds of values, copies of values, and what makes two values equal."""
 
-LETTERS = "abcdefghijklmnopqrstuvwxyz"
 LONGEST_NAME = 8
 
 
@@ -24,9 +23,9 @@ def is_integer_within(value, least, most):
 
 def is_name(value):
     """Whether a value is a string of 1 to 8 letters from a to z."""
-    if not isinstance(value, str) or not 1 <= len(value) <= LONGEST_NAME:
+    if not isinstance(value, str) or len(value) > LONGEST_NAME:
         return False
-    return all([letter in LETTERS for letter in value])
+    return value.isascii() and value.isalpha() and value.islower()
 
 
 def copied(value):

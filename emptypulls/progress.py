@@ -1,8 +1,8 @@
 """How far a depot has come."""
 
 from emptypulls.errors import LeftStanding, NoTrailer
-from emptypulls.stands import Stand, is_safe
-from emptypulls.words import LEAVE, PULL
+from emptypulls.stands import Stand, is_safe_at
+from emptypulls.words import LEAVE, LOAD, PULL
 
 
 class Progress:
@@ -46,9 +46,13 @@ class Progress:
                 raise
             raise LeftStanding(self.index) from missing
 
-    def is_well_behind(self, word):
-        """Whether the next trip can be driven with this word, and the stand behind it is safe."""
-        if word != LEAVE and self.tour[self.index].start not in self.stand:
-            return False
-        behind = self.behind(word)
-        return is_safe(behind.tour >> behind.index, behind.stand)
+    def fair_words(self):
+        """The words with which the next trip can be driven so that the stand behind it is safe."""
+        trip = self.tour[self.index]
+        behind = (self.index + 1) % len(self.tour)
+        words = []
+        if trip.start in self.stand and is_safe_at(self.tour, behind, self.stand.moved(trip.start, trip.goal)):
+            words.extend([LOAD, PULL])
+        if is_safe_at(self.tour, behind, self.stand):
+            words.append(LEAVE)
+        return tuple(words)

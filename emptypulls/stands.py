@@ -4,6 +4,7 @@ from emptypulls.arguments import check_number, check_tour
 from emptypulls.digits import is_digits, number_text
 from emptypulls.errors import BadName, BadStand, BadText, NoTrailer, NoYard, Unsafe
 from emptypulls.kinds import is_integer, is_name
+from emptypulls.needs import are_enough, loads_until_missing, needs_at
 from emptypulls.places import parted
 
 MOST_DIGITS = 60
@@ -27,6 +28,10 @@ class Stand:
             raise BadName(at)
         return self._numbers.get(at, 0)
 
+    def by(self, yards):
+        """A dict from these yards to the numbers of trailers there."""
+        return {yard: self._numbers.get(yard, 0) for yard in yards}
+
     def __contains__(self, x):
         return x in self._yards
 
@@ -42,17 +47,23 @@ class Stand:
     def __add__(self, other):
         if not isinstance(other, Stand):
             raise BadStand("other")
-        return Stand({yard: self[yard] + other[yard] for yard in (*self._yards, *other._yards)})
+        numbers = dict(self._numbers)
+        for yard in other._yards:
+            numbers[yard] = numbers.get(yard, 0) + other._numbers[yard]
+        return Stand(numbers)
 
     def __sub__(self, other):
         if not isinstance(other, Stand) or not other <= self:
             raise BadStand("other")
-        return Stand({yard: self[yard] - other[yard] for yard in self._yards})
+        numbers = dict(self._numbers)
+        for yard in other._yards:
+            numbers[yard] = numbers[yard] - other._numbers[yard]
+        return Stand(numbers)
 
     def __le__(self, other):
         if not isinstance(other, Stand):
             raise BadStand("other")
-        return all([self[yard] <= other[yard] for yard in self._yards])
+        return are_enough(other.by(self._yards), self._numbers)
 
     def moved(self, start, goal):
         """The stand with one trailer moved from start to goal."""
@@ -60,9 +71,12 @@ class Stand:
             raise BadName(start)
         if not is_name(goal):
             raise BadName(goal)
-        if self[start] == 0:
+        if start not in self._numbers:
             raise NoTrailer(start)
-        return self - Stand({start: 1}) + Stand({goal: 1})
+        numbers = dict(self._numbers)
+        numbers[start] = numbers[start] - 1
+        numbers[goal] = numbers.get(goal, 0) + 1
+        return Stand(numbers)
 
     def __eq__(self, other):
         return isinstance(other, Stand) and self._numbers == other._numbers
@@ -131,48 +145,50 @@ def check_stand(tour, stand):
 def need(tour):
     """What each yard needs, so that no load need ever be left standing."""
     check_tour(tour, "tour")
-    return Stand({yard: need_at(tour, yard) for yard in tour.yards})
-
-
-def need_at(tour, yard):
-    """The most trailers that a beginning of the tour takes from a yard above those that it brings there."""
-    most = 0
-    gone = 0
-    for trip in tour.trips:
-        if trip.start == yard:
-            gone = gone + 1
-        elif trip.goal == yard:
-            gone = gone - 1
-        if gone > most:
-            most = gone
-    return most
+    return Stand(needs_at(tour, 0))
 
 
 def is_safe(tour, stand):
     """Whether each yard has at least its need."""
     check_tour(tour, "tour")
     check_stand(tour, stand)
-    return need(tour) <= stand
+    return is_safe_at(tour, 0, stand)
+
+
+def is_safe_at(tour, index, stand):
+    """Whether each yard of the tour has at least its need ahead of the trip of this index."""
+    return are_enough(stand.by(tour.yards), needs_at(tour, index))
 
 
 def spares(tour, stand):
     """What a safe stand has above the need."""
-    loads = stranding(tour, stand)
-    if loads is not None:
-        raise Unsafe(loads)
-    return stand - need(tour)
+    check_tour(tour, "tour")
+    check_stand(tour, stand)
+    return spares_at(tour, 0, stand)
+
+
+def spares_at(tour, index, stand):
+    """What the stand has above the need ahead of the trip of this index."""
+    needs = needs_at(tour, index)
+    numbers = stand.by(tour.yards)
+    if not are_enough(numbers, needs):
+        raise Unsafe(stranding_at(tour, index, stand))
+    return Stand({yard: numbers[yard] - needs[yard] for yard in needs})
 
 
 def stranding(tour, stand):
     """The shortest row of loads of which one is left standing whatever a puller does; None if there is none."""
     check_tour(tour, "tour")
     check_stand(tour, stand)
-    now = stand
-    for at, trip in enumerate(tour.trips):
-        if trip.start not in now:
-            return (True,) * (at + 1)
-        now = now.moved(trip.start, trip.goal)
-    return None
+    return stranding_at(tour, 0, stand)
+
+
+def stranding_at(tour, index, stand):
+    """The shortest such row from the trip of this index on."""
+    many = loads_until_missing(tour, index, stand.by(tour.yards))
+    if many is None:
+        return None
+    return (True,) * many
 
 
 def placings(tour, number):
@@ -188,4 +204,5 @@ def place_of(tour, stand):
     """The numbers of trailers by the yards of the tour."""
     check_tour(tour, "tour")
     check_stand(tour, stand)
-    return tuple([stand[yard] for yard in tour.yards])
+    numbers = stand.by(tour.yards)
+    return tuple([numbers[yard] for yard in tour.yards])
