@@ -3,10 +3,14 @@
 import unittest
 
 from emptypulls import errors
+from emptypulls.compare import Cheap
 from emptypulls.depots import Depot
+from emptypulls.games import Priced, Pulling
 from emptypulls.known import Known, Rings
 from emptypulls.orders import Rising
 from emptypulls.rates import Rate
+from emptypulls.rules import Always, Levels, Moment
+from emptypulls.seen import Fits
 from emptypulls.stands import Stand
 from emptypulls.tours import Tour
 from emptypulls.trips import Trip
@@ -32,7 +36,8 @@ def any_values():
         {}, {"a": 1}, {1: "a", (1, None): [2]}, nested(20), Rate(1), Rate(1, 2), Trip("a", "b"),
         both, errors.BadRate("top"), errors.NoDeed(), [Rate(1)], Stand({}), Stand({"a": 1}), [Stand({})],
         Depot(both, Stand({"a": 1})), Rising(1, ("a", "b"), {(): 0}), Known(Rate(1), (0, 1), ("load",), {}),
-        Rings(1, None, [both]), (True,), [False, False], {"a": True}, {"a": -1}, {"A": 1}, {True: 1},
+        Rings(1, None, [both]), Always(), Levels({"a": 1}), Moment(both, 0, Stand({"a": 1}), Stand({"a": 1})),
+        Priced(Rate(1), Pulling(Rate(1), {(0, (0, 1)): 2}), None), Cheap({}), Fits({"a": 1}, ["a"]), (True,), [False, False], {"a": True}, {"a": -1}, {"A": 1}, {True: 1},
     ]
 
 

@@ -72,6 +72,39 @@ KNOWN = '''
 >>> [str(endless_price(both, [False, False]).rate), endless_price(both, [False, False]).left, str(endless_price(ring, (False, False, True)).rate), str(known_price(ring, [False, False, False], 1).rate)]
 ['0', (0, 1), '2', '3/2']
 '''
+GAMES = '''
+>>> from emptypulls.games import Pressing, Pulling, enough, least_price, price_from
+>>> [str(least_price(both, n).rate) for n in (0, 1, 2)], [str(least_price(ring, n).rate) for n in (0, 1)], [str(least_price(star, n).rate) for n in (0, 1, 2)]
+(['6', '5', '5'], ['3', '2'], ['4', '3', '2'])
+>>> dear = Tour.there_and_back("a", "b", 5, 5) + Tour.there_and_back("a", "c", 1, 5)
+>>> [str(price_from(dear, need(dear) + Stand({yard: 1})).rate) for yard in "abc"], enough(star, 6), enough(both, 0), str(price_from(both, two).rate)
+(['11', '11', '15'], 2, None, '5')
+>>> late = Tour.read("a>b 1, c>b 1, b>c 1, a>c 1, c>a 1, b>a 1")
+>>> [str(need(late)), str(least_price(late, 1).rate), greatest_rising(late).number]
+['a 2, c 1', '9/2', 3]
+>>> price_from(both, Stand({"b": 1}))
+raises Unsafe((True,))
+'''
+RULES = '''
+>>> from emptypulls.rules import Always, By, Fullest, Guarded, Levels, Moment, Never, driven_by, stranded, worst
+>>> keep = Levels({"a": 1, "b": 1})
+>>> [driven_by(both, keep, two, [True, False, False, True, False]), stranded(both, Never(), two), stranded(both, Fullest(), need(both)), str(worst(both, keep, two).rate)]
+[('load', 'pull', 'leave', 'load', 'pull'), (True, False, True), (False, False, True), '5']
+>>> [str(worst(both, Always(), two).rate), str(worst(both, Guarded(Fullest()), need(both)).rate), str(worst(both, Fullest(), two).rate), keep(Moment(both, 0, two, two)), (Never() | Always())(Moment(both, 0, two, two))]
+['6', '6', '5', False, True]
+'''
+COMPARE = '''
+>>> from emptypulls.compare import never_dearer
+>>> [bool(never_dearer(both, keep, Always(), two)), never_dearer(both, Always(), keep, two).loads, bool(never_dearer(both, keep, keep, two))]
+[True, (False,), True]
+'''
+SEEN = '''
+>>> from emptypulls.seen import Fits, first_stands, unexplained
+>>> [first_stands(both, ["load", "none", "load"]) == Fits({"a": 2, "b": 0}, ()), first_stands(both, ["missed", "load"]) == Fits({"a": 0, "b": 1}, ("a",))]
+[True, True]
+>>> [first_stands(both, ["load", "none", "load"], 3) == Fits({"a": 2, "b": 0}, ()), first_stands(both, ["missed"], 4) == Fits({"a": 0, "b": 4}, ("a", "b")), unexplained(both, ["load", "pull", "missed"])]
+[True, True, 2]
+'''
 
 
 def steps_of(text):
@@ -103,7 +136,7 @@ class ExampleTest(Case):
                     self.assertEqual(repr(eval(code, self.names)), answer)
 
     def test_all_in_the_order_of_the_document(self):
-        for text in (RATES, TRIPS, TOURS, STANDS, DEPOTS, ORDERS, KNOWN):
+        for text in (RATES, TRIPS, TOURS, STANDS, DEPOTS, ORDERS, KNOWN, GAMES, RULES, COMPARE, SEEN):
             self.look(text)
 
 

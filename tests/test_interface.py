@@ -5,10 +5,14 @@ import inspect
 import unittest
 
 from checks import FIELDS, Case, any_values
+from emptypulls.compare import Cheap, Dearer
 from emptypulls.depots import Depot
+from emptypulls.games import Least, Pressing, Priced, Pulling
 from emptypulls.known import Known, Rings
 from emptypulls.orders import Rising
 from emptypulls.rates import Rate
+from emptypulls.rules import Always, Both, By, Either, Fullest, Guarded, Levels, Moment, Never, Not, Rule, Worst
+from emptypulls.seen import Fits
 from emptypulls.stands import Stand
 from emptypulls.tours import Tour
 from emptypulls.trips import Trip
@@ -16,7 +20,22 @@ from emptypulls.trips import Trip
 OPERATORS = {"+": "__add__", "-": "__sub__", "*": "__mul__", "|": "__or__", ">>": "__rshift__", "neg": "__neg__",
              "~": "__invert__", "==": "__eq__", "<": "__lt__", "<=": "__le__", ">": "__gt__", ">=": "__ge__",
              "bool": "__bool__", "str": "__str__", "len": "__len__", "iter": "__iter__", "in": "__contains__",
-             "[]": "__getitem__", "[] =": "__setitem__", "+=": "__iadd__", "+ r": "__radd__", "- r": "__rsub__", "* r": "__rmul__"}
+             "[]": "__getitem__", "[] =": "__setitem__", "+=": "__iadd__", "&": "__and__", "call": "__call__",
+             "+ r": "__radd__", "- r": "__rsub__", "* r": "__rmul__"}
+
+
+def paper(*names):
+    """What is listed for a paper."""
+    return {"made": list(names), "properties": [], "attributes": list(names), "methods": {}, "classes": {},
+            "statics": {}, "operators": ["=="]}
+
+
+def rule(*names):
+    """What is listed for a rule that is made of these arguments."""
+    return {"made": list(names), "properties": [], "attributes": [], "methods": {"__call__": ["moment"]},
+            "classes": {}, "statics": {}, "operators": ["call", "=="]}
+
+
 LISTED = {
     ("rates", "Rate"): {
         "made": ["top", "bottom"], "properties": ["top", "bottom"], "attributes": [],
@@ -53,6 +72,25 @@ LISTED = {
     ("known", "Rings"): {
         "made": ["rate", "left", "heights"], "properties": [], "attributes": ["rate", "left", "heights"],
         "methods": {}, "classes": {}, "statics": {}, "operators": ["=="]},
+    ("games", "Pulling"): paper("rate", "heights"),
+    ("games", "Pressing"): paper("rate", "heights"),
+    ("games", "Priced"): paper("rate", "pulling", "pressing"),
+    ("games", "Least"): paper("rate", "start", "pulling", "pressing"),
+    ("rules", "Moment"): paper("tour", "index", "begun", "now"),
+    ("rules", "Worst"): paper("rate", "row", "ring", "heights"),
+    ("rules", "Rule"): {**rule(), "operators": ["call", "==", "&", "|", "~"]},
+    ("rules", "Always"): rule(),
+    ("rules", "Never"): rule(),
+    ("rules", "Fullest"): rule(),
+    ("rules", "Levels"): rule("levels"),
+    ("rules", "By"): rule("work"),
+    ("rules", "Guarded"): rule("rule"),
+    ("rules", "Both"): rule("one", "other"),
+    ("rules", "Either"): rule("one", "other"),
+    ("rules", "Not"): rule("one"),
+    ("compare", "Cheap"): {**paper("marks"), "operators": ["==", "bool"]},
+    ("compare", "Dearer"): {**paper("loads"), "operators": ["==", "bool"]},
+    ("seen", "Fits"): paper("least", "known"),
 }
 FUNCTIONS = {
     "stands": {"need": ["tour"], "is_safe": ["tour", "stand"], "spares": ["tour", "stand"],
@@ -60,12 +98,22 @@ FUNCTIONS = {
     "orders": {"rising": ["tour", "order"], "down": ["tour", "order"], "loads_of": ["tour", "order"],
                "greatest_rising": ["tour"], "best_orders": ["tour"], "common_order": ["one", "other"]},
     "known": {"known_price": ["tour", "loads", "number"], "endless_price": ["tour", "loads"]},
+    "games": {"price_from": ["tour", "stand"], "least_price": ["tour", "number"], "enough": ["tour", "most"]},
+    "rules": {"driven_by": ["tour", "rule", "stand", "loads"], "stranded": ["tour", "rule", "stand"],
+              "worst": ["tour", "rule", "stand"]},
+    "compare": {"never_dearer": ["tour", "one", "other", "stand"]},
+    "seen": {"first_stands": ["tour", "log", "whole"], "unexplained": ["tour", "log"]},
 }
 GENERATORS = ["placings", "best_orders"]
 BOTH = Tour.there_and_back("a", "b")
 MADE = {"Rate": Rate(1, 2), "Trip": Trip("a", "b"), "Tour": BOTH, "Stand": Stand({"a": 1}),
         "Depot": Depot(BOTH, Stand({"a": 1})), "Rising": Rising(1, 2, 3), "Known": Known(1, 2, 3, 4),
-        "Rings": Rings(1, 2, 3)}
+        "Rings": Rings(1, 2, 3), "Pulling": Pulling(1, 2), "Pressing": Pressing(1, 2), "Priced": Priced(1, 2, 3),
+        "Least": Least(1, 2, 3, 4), "Moment": Moment(1, 2, 3, 4), "Worst": Worst(1, 2, 3, 4), "Rule": Rule(),
+        "Always": Always(), "Never": Never(), "Fullest": Fullest(), "Levels": Levels({"a": 1}),
+        "By": By(lambda moment: True), "Guarded": Guarded(Always()), "Both": Both(Always(), Never()),
+        "Either": Either(Always(), Never()), "Not": Not(Always()), "Cheap": Cheap(1), "Dearer": Dearer(1),
+        "Fits": Fits(1, 2)}
 
 
 def listed():
@@ -132,14 +180,18 @@ class InterfaceTest(Case):
     def test_no_function_changes_its_arguments(self):
         for functions in FUNCTIONS.values():
             for name, parameters in functions.items():
-                for told in ([tour, stand, order, loads, number, other]
+                for told in ([tour, stand, order, loads, number, other, held]
                              for tour in (BOTH, None) for stand in (Stand({"a": 1}), Stand({}), Stand({"z": 1}))
                              for order in (["b", "a"], ["b"]) for loads in ([True, False], [True, 1])
-                             for number in (1, 7) for other in (~BOTH, Tour.around("a", "b", "c"))):
+                             for number in (1, 7) for other in (~BOTH, Tour.around("a", "b", "c"))
+                             for held in (Always(), Levels({"b": 1}))):
                     self.look_at(name, parameters, *told)
 
     def look_at(self, name, parameters, *told):
-        kept = dict(zip(("tour", "stand", "order", "loads", "number", "other"), told), one=told[0])
+        kept = dict(zip(("tour", "stand", "order", "loads", "number", "other", "rule"), told), one=told[0])
+        kept.update(most=kept["number"], whole=kept["number"], log=["load", "none"] if told[4] == 1 else ["load", 1])
+        if name == "never_dearer":
+            kept.update(one=kept["rule"], other=Guarded(kept["rule"]))
         before = {key: str(value) for key, value in kept.items()}
         function = next(getattr(importlib.import_module(f"emptypulls.{file}"), name)
                         for file, functions in FUNCTIONS.items() if name in functions)

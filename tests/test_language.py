@@ -178,9 +178,25 @@ class NamesTest(unittest.TestCase):
 
     def test_methods_of_builtin_values(self):
         own = {node.name for _, node in nodes(ast.FunctionDef)}
+        # A rule that another one holds is called off its own object.
+        held = {"rule", "one", "other"}
         for name, node in nodes(ast.Call):
             if isinstance(node.func, ast.Attribute):
-                self.assertIn(node.func.attr, METHODS | own, f"{name}:{node.lineno}")
+                told = METHODS | own | (held if getattr(node.func.value, "id", None) == "self" else set())
+                self.assertIn(node.func.attr, told, f"{name}:{node.lineno}")
+
+    def test_the_names_of_static_and_class_methods_mean_nothing_else(self):
+        kinds = {"property": set(), "staticmethod": set(), "classmethod": set(), "": set()}
+        for _, node in nodes(ast.ClassDef):
+            for part in node.body:
+                if isinstance(part, ast.FunctionDef):
+                    marks = [mark.id for mark in part.decorator_list if isinstance(mark, ast.Name)]
+                    kinds[marks[0] if marks else ""].add(part.name)
+        off = kinds["staticmethod"] | kinds["classmethod"]
+        # A property and its setter have one name.
+        self.assertEqual(off & (kinds["property"] | kinds[""] | METHODS | assigned_attributes()), set())
+        self.assertLessEqual(kinds["property"] & kinds[""], {"tour_now"})
+        self.assertEqual(kinds["property"] & METHODS, set())
 
     def test_no_generator_where_a_list_is_asked_for(self):
         for name, node in nodes(ast.Call):
