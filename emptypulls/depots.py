@@ -173,6 +173,12 @@ class Depot(Twinned):
         made._words = list(self._words)
         return made
 
+    def branch(self):
+        """An equal depot that can take back the same deeds, and goes its own way."""
+        made = self.twin()
+        made._past = list(self._past)
+        return made
+
     def __eq__(self, other):
         return (isinstance(other, Depot) and self.tour_now == other.tour_now and self.stand_now == other.stand_now
                 and self.next_index == other.next_index and self.laps == other.laps

@@ -27,6 +27,13 @@ def is_digits(text):
     return len(text) > 0 and all([sign in DIGITS for sign in text])
 
 
+def is_number_word(word, most):
+    """Whether a word is a number from 0 on, as str writes it, of at most so many digits."""
+    if not is_digits(word) or len(word) > most:
+        return False
+    return word == "0" or not word.startswith("0")
+
+
 def read_digits(text):
     """The integer that a string of decimal digits tells."""
     first = len(text) % CHUNK

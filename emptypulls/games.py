@@ -1,15 +1,11 @@
 """What the pulls cost at least, on average for ever, whatever loads come."""
 
-from math import comb
-
 from emptypulls.arguments import check_number, check_tour
 from emptypulls.duels import Duel, least_of
-from emptypulls.errors import TooMany
 from emptypulls.kinds import Twinned, are_same, copied
 from emptypulls.orders import greatest_rising
+from emptypulls.places import check_places
 from emptypulls.stands import check_stand, place_of, spares
-
-MOST_STANDINGS = 400
 
 
 class Pulling(Twinned):
@@ -84,7 +80,7 @@ def price_from(tour, stand):
     check_tour(tour, "tour")
     check_stand(tour, stand)
     spare = spares(tour, stand)
-    check_places(tour, spare.whole)
+    check_places(len(tour), tour, spare.whole)
     duel = Duel(tour, spare.whole)
     start = duel.numbers[0, place_of(tour, spare)]
     rate, _, pulling, pressing = least_of(duel, [start])
@@ -95,7 +91,7 @@ def least_price(tour, number):
     """The least price of all stands with so many spares."""
     check_tour(tour, "tour")
     check_number(number)
-    check_places(tour, number)
+    check_places(len(tour), tour, number)
     duel = Duel(tour, number)
     rate, start, pulling, pressing = least_of(duel, duel.starts)
     _, place = duel.standings[start]
@@ -111,10 +107,3 @@ def enough(tour, most):
         if least_price(tour, number).rate == bound:
             return number
     return None
-
-
-def check_places(tour, number):
-    """The number of standings for a number of spares."""
-    others = len(tour.yards) - 1
-    if len(tour) * comb(number + others, others) > MOST_STANDINGS:
-        raise TooMany("places", MOST_STANDINGS)

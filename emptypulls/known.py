@@ -1,15 +1,12 @@
 """What a row of loads costs that is known ahead and comes again and again."""
 
 from emptypulls.arguments import check_loads, check_number, check_tour
-from emptypulls.errors import TooMany
 from emptypulls.kinds import Twinned, are_same, copied
 from emptypulls.lots import greatest_lot, lot_heights
-from emptypulls.places import place_behind_leaving, places_of
+from emptypulls.places import check_places, place_behind_leaving, places_of
 from emptypulls.rates import Rate
 from emptypulls.rounds import free_ring, heights_of, least_mean, weighed
 from emptypulls.words import LEAVE, LOAD, PULL
-
-MOST_STANDINGS = 400
 
 
 class Known(Twinned):
@@ -52,9 +49,8 @@ def known_price(tour, loads, number):
     check_tour(tour, "tour")
     check_loads(tour, loads)
     check_number(number)
+    check_places(len(loads), tour, number)
     places = places_of(tour, number)
-    if len(loads) * len(places) > MOST_STANDINGS:
-        raise TooMany("places", MOST_STANDINGS)
     layers = [layer_of(tour, index, load, places) for index, load in enumerate(loads)]
     rate = least_mean(layers).over(tours_of(tour, loads))
     weights = weighed(layers, rate, len(tour))

@@ -1,5 +1,11 @@
 """Places: how many spares each yard of a tour has, as tuples by the ascending yards."""
 
+from math import comb
+
+from emptypulls.errors import TooMany
+
+MOST_STANDINGS = 400
+
 
 def parted(number, many):
     """All tuples of so many numbers from 0 on with this sum, ascending."""
@@ -17,6 +23,18 @@ def places_of(tour, number):
     """The list of all places of so many spares, ascending."""
     many = len(tour.yards)
     return list(parted(number, many))
+
+
+def count_of_places(tour, number):
+    """How many places of so many spares there are."""
+    others = len(tour.yards) - 1
+    return comb(number + others, others)
+
+
+def check_places(indexes, tour, number):
+    """That there are not too many pairs of one of so many indexes and a place."""
+    if indexes * count_of_places(tour, number) > MOST_STANDINGS:
+        raise TooMany("places", MOST_STANDINGS)
 
 
 def place_behind_leaving(tour, trip, place):

@@ -3,11 +3,8 @@
 from emptypulls.arguments import check_tour
 from emptypulls.errors import BadCount, BadLog
 from emptypulls.kinds import Twinned, are_same, copied, is_integer
-from emptypulls.words import LOAD, PULL
+from emptypulls.words import ENTRIES, MISSED, NONE
 
-MISSED = "missed"
-NONE = "none"
-ENTRIES = (LOAD, MISSED, PULL, NONE)
 MOST_ENTRIES = 240
 
 

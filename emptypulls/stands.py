@@ -1,7 +1,7 @@
 """Stands: how many trailers each yard has, and how many a tour needs there."""
 
 from emptypulls.arguments import check_number, check_tour
-from emptypulls.digits import is_digits, number_text
+from emptypulls.digits import is_number_word, number_text
 from emptypulls.errors import BadName, BadStand, BadText, NoTrailer, NoYard, Unsafe
 from emptypulls.kinds import is_integer, is_name
 from emptypulls.needs import are_enough, loads_until_missing, needs_at
@@ -124,13 +124,13 @@ def can_stand(words, at):
     if at % 2 == 0:
         return is_name(word) and (at == 0 or words[at - 2] < word)
     if at == len(words) - 1:
-        return is_number_word(word)
-    return word.endswith(",") and is_number_word(word[:-1])
+        return is_many_word(word)
+    return word.endswith(",") and is_many_word(word[:-1])
 
 
-def is_number_word(word):
-    """Whether a word is a number from 1 on, as str writes it, that is not too long."""
-    return is_digits(word) and not word.startswith("0") and len(word) <= MOST_DIGITS
+def is_many_word(word):
+    """Whether a word is a number of trailers from 1 on."""
+    return word != "0" and is_number_word(word, MOST_DIGITS)
 
 
 def check_stand(tour, stand):

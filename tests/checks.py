@@ -5,8 +5,10 @@ import unittest
 from emptypulls import errors
 from emptypulls.compare import Cheap
 from emptypulls.depots import Depot
+from emptypulls.desk import Desk
 from emptypulls.games import Priced, Pulling
 from emptypulls.known import Known, Rings
+from emptypulls.lookers import Looker
 from emptypulls.orders import Rising
 from emptypulls.rates import Rate
 from emptypulls.rules import Always, Levels, Moment
@@ -37,7 +39,8 @@ def any_values():
         both, errors.BadRate("top"), errors.NoDeed(), [Rate(1)], Stand({}), Stand({"a": 1}), [Stand({})],
         Depot(both, Stand({"a": 1})), Rising(1, ("a", "b"), {(): 0}), Known(Rate(1), (0, 1), ("load",), {}),
         Rings(1, None, [both]), Always(), Levels({"a": 1}), Moment(both, 0, Stand({"a": 1}), Stand({"a": 1})),
-        Priced(Rate(1), Pulling(Rate(1), {(0, (0, 1)): 2}), None), Cheap({}), Fits({"a": 1}, ["a"]), (True,), [False, False], {"a": True}, {"a": -1}, {"A": 1}, {True: 1},
+        Priced(Rate(1), Pulling(Rate(1), {(0, (0, 1)): 2}), None), Cheap({}), Fits({"a": 1}, ["a"]),
+        Looker(both), Desk(), (True,), [False, False], {"a": True}, {"a": -1}, {"A": 1}, {True: 1},
     ]
 
 

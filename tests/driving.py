@@ -4,6 +4,7 @@ import random
 from collections import deque
 from fractions import Fraction
 from itertools import product
+from zlib import crc32
 
 from emptypulls.rules import Always, By, Either, Fullest, Guarded, Levels, Moment, Never, Not
 from reference import all_places, indexes, moved, need_at, stand_at
@@ -121,13 +122,18 @@ def count_of_choices(tour, number):
     return sum(len(duel_steps(tour, one)[1]) == 2 for one in all_standings(tour, number))
 
 
+def mixed(text):
+    """A number below a hundred that is the same one for the same text."""
+    return crc32(text.encode()) // 7 % 100
+
+
 def some_rules(tour, seed):
     """Rules of all kinds for a tour, the same ones for the same seed."""
     chance = random.Random(seed)
 
     def by():
         odds, salt = chance.choice([0, 20, 50, 80, 100]), chance.random()
-        return By(lambda moment: random.Random(f"{salt} {moment.index} {moment.begun} {moment.now}").random() * 100 < odds)
+        return By(lambda moment: mixed(f"{salt} {moment.index} {moment.begun} {moment.now}") < odds)
 
     levels = Levels({yard: chance.randint(0, 2) for yard in tour.yards})
     return [Always(), Never(), Fullest(), levels, by(), Guarded(Never()), Guarded(Fullest()), Guarded(by()),

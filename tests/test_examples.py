@@ -105,6 +105,29 @@ SEEN = '''
 >>> [first_stands(both, ["load", "none", "load"], 3) == Fits({"a": 2, "b": 0}, ()), first_stands(both, ["missed"], 4) == Fits({"a": 0, "b": 4}, ("a", "b")), unexplained(both, ["load", "pull", "missed"])]
 [True, True, 2]
 '''
+LOOKERS = r'''
+>>> from emptypulls.lookers import Looker
+>>> from emptypulls.orders import Rising
+>>> look = Looker(both)
+>>> [look.risings(Rising(5, ("a", "b"), {(): 0, ("a",): 0, ("b",): 0, ("a", "b"): 5})), look.strandings((True,), Stand({"b": 3})), look.prices(price_from(both, two), two), look.leasts(least_price(both, 1), 2)]
+[True, True, True, False]
+'''
+TEXTS = r'''
+>>> from emptypulls.reader import read_depot
+>>> from emptypulls.texts import depot_text
+>>> [depot_text(Depot(both, two, 1)), read_depot(depot_text(depot)) == Depot(both, depot.stand_now, 0, 1)]
+['tour a>b 5, b>a 1\nstand a 1, b 1\nat 1\npaid 0', True]
+>>> read_depot("tour a>b 5, b>a 1\nstand -\nat 2\npaid 0")
+raises BadText(2, 1)
+'''
+DESK = r'''
+>>> from emptypulls.desk import Desk
+>>> desk = Desk()
+>>> desk.run("open a>b 5, b>a 1", "put b 1", "price", "load", "pull", "show", "worst never", "worst always", "least 1", "known nn 1", "undo", "spares", "rising a>b 1, b>a 2")
+['ok', 'ok', '5', '0', '1', 'a 1, b 1 at 0 paid 1', 'strands lnl', '6', '5', '0', 'drive', 'b 1', '2 b a']
+>>> desk("put a 1,")
+raises BadLine(2)
+'''
 
 
 def steps_of(text):
@@ -136,7 +159,8 @@ class ExampleTest(Case):
                     self.assertEqual(repr(eval(code, self.names)), answer)
 
     def test_all_in_the_order_of_the_document(self):
-        for text in (RATES, TRIPS, TOURS, STANDS, DEPOTS, ORDERS, KNOWN, GAMES, RULES, COMPARE, SEEN):
+        for text in (RATES, TRIPS, TOURS, STANDS, DEPOTS, ORDERS, KNOWN, GAMES, RULES, COMPARE, SEEN, LOOKERS,
+                     TEXTS, DESK):
             self.look(text)
 
 

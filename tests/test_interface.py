@@ -7,8 +7,10 @@ import unittest
 from checks import FIELDS, Case, any_values
 from emptypulls.compare import Cheap, Dearer
 from emptypulls.depots import Depot
+from emptypulls.desk import Desk
 from emptypulls.games import Least, Pressing, Priced, Pulling
 from emptypulls.known import Known, Rings
+from emptypulls.lookers import Looker
 from emptypulls.orders import Rising
 from emptypulls.rates import Rate
 from emptypulls.rules import Always, Both, By, Either, Fullest, Guarded, Levels, Moment, Never, Not, Rule, Worst
@@ -91,6 +93,16 @@ LISTED = {
     ("compare", "Cheap"): {**paper("marks"), "operators": ["==", "bool"]},
     ("compare", "Dearer"): {**paper("loads"), "operators": ["==", "bool"]},
     ("seen", "Fits"): paper("least", "known"),
+    ("lookers", "Looker"): {
+        "made": ["tour"], "properties": [], "attributes": [],
+        "methods": {"strandings": ["paper", "stand"], "risings": ["paper"], "knowns": ["paper", "loads", "number"],
+                    "endless": ["paper", "loads"], "prices": ["paper", "stand"], "leasts": ["paper", "number"],
+                    "worsts": ["paper", "rule", "stand"], "cheaps": ["paper", "one", "other", "stand"]},
+        "classes": {}, "statics": {}, "operators": []},
+    ("desk", "Desk"): {
+        "made": [], "properties": [], "attributes": [],
+        "methods": {"ask": ["line"], "__call__": ["line"], "run": ["lines"], "depot_now": []},
+        "classes": {}, "statics": {}, "operators": ["call"]},
 }
 FUNCTIONS = {
     "stands": {"need": ["tour"], "is_safe": ["tour", "stand"], "spares": ["tour", "stand"],
@@ -103,6 +115,8 @@ FUNCTIONS = {
               "worst": ["tour", "rule", "stand"]},
     "compare": {"never_dearer": ["tour", "one", "other", "stand"]},
     "seen": {"first_stands": ["tour", "log", "whole"], "unexplained": ["tour", "log"]},
+    "texts": {"depot_text": ["depot"]},
+    "reader": {"read_depot": ["text"]},
 }
 GENERATORS = ["placings", "best_orders"]
 BOTH = Tour.there_and_back("a", "b")
@@ -113,7 +127,7 @@ MADE = {"Rate": Rate(1, 2), "Trip": Trip("a", "b"), "Tour": BOTH, "Stand": Stand
         "Always": Always(), "Never": Never(), "Fullest": Fullest(), "Levels": Levels({"a": 1}),
         "By": By(lambda moment: True), "Guarded": Guarded(Always()), "Both": Both(Always(), Never()),
         "Either": Either(Always(), Never()), "Not": Not(Always()), "Cheap": Cheap(1), "Dearer": Dearer(1),
-        "Fits": Fits(1, 2)}
+        "Fits": Fits(1, 2), "Looker": Looker(BOTH), "Desk": Desk()}
 
 
 def listed():
@@ -189,6 +203,7 @@ class InterfaceTest(Case):
 
     def look_at(self, name, parameters, *told):
         kept = dict(zip(("tour", "stand", "order", "loads", "number", "other", "rule"), told), one=told[0])
+        kept.update(text=str(kept["other"]), depot=Depot(BOTH, Stand({"a": 1})) if told[0] is None else None)
         kept.update(most=kept["number"], whole=kept["number"], log=["load", "none"] if told[4] == 1 else ["load", 1])
         if name == "never_dearer":
             kept.update(one=kept["rule"], other=Guarded(kept["rule"]))

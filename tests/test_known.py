@@ -8,93 +8,14 @@ from emptypulls.known import Known, Rings, endless_price, known_price
 from emptypulls.rates import Rate
 from emptypulls.tours import Tour
 from emptypulls.trips import Trip
-from reference import all_places, indexes, some_tours
+from papers import is_level, is_right_known, is_right_rings, known_steps
+from reference import all_places, some_tours
 
 BOTH = Tour.there_and_back("a", "b", 5)
 RING = Tour.around("a", "b", "c")
 SIX = Tour.around(*"abcdef").priced([3, 1, 4, 1, 5, 9])
 TWELVE = SIX + Tour.around(*"fdbeca").priced([9, 2, 0, 7, 1, 99])
 F, T = False, True
-
-
-def left(way, place):
-    """The place behind a leaving; None if it is not fair."""
-    start, goal = way
-    if place[goal] == 0:
-        return None
-    changed = list(place)
-    changed[start] += 1
-    changed[goal] -= 1
-    return tuple(changed)
-
-
-def steps(tour, loads, index, place):
-    """The words that can be driven there, what is paid, and the place behind."""
-    trip = tour[index % len(tour)]
-    if loads[index]:
-        return {"load": (0, place)}
-    found = {"pull": (trip.price, place)}
-    behind = left(indexes(tour)[index % len(tour)], place)
-    if behind is not None:
-        found["leave"] = (0, behind)
-    return found
-
-
-def is_right_known(tour, loads, number, paper):
-    """Whether a paper is a Known that is right, by a look at every step of every standing."""
-    places = all_places(len(tour.yards), number)
-    if type(paper) is not Known or type(paper.rate) is not Rate or type(paper.words) is not tuple:
-        return False
-    if paper.start not in places or not 1 <= len(paper.words) <= 1000 or len(paper.words) % len(loads) != 0:
-        return False
-    place, paid = paper.start, 0
-    for at, word in enumerate(paper.words):
-        found = steps(tour, loads, at % len(loads), place)
-        if word not in found:
-            return False
-        cost, place = found[word]
-        paid += cost
-    if place != paper.start or paper.rate != Rate(paid, len(paper.words) // len(tour)):
-        return False
-    return are_right_heights(tour, loads, places, paper)
-
-
-def are_right_heights(tour, loads, places, paper):
-    if type(paper.heights) is not dict or set(paper.heights) != set(product(range(len(loads)), places)):
-        return False
-    if not all(type(height) is int for height in paper.heights.values()):
-        return False
-    for index, place in paper.heights:
-        last = (index + 1) % len(tour) == 0
-        for cost, behind in steps(tour, loads, index, place).values():
-            weight = paper.rate.bottom * cost - (paper.rate.top if last else 0)
-            if paper.heights[index, place] > weight + paper.heights[(index + 1) % len(loads), behind]:
-                return False
-    return True
-
-
-def is_right_rings(tour, loads, paper):
-    """Whether a paper is a Rings that is right."""
-    unloaded = [index for index, load in enumerate(loads) if not load]
-    trips = {index: tour[index % len(tour)] for index in unloaded}
-    if type(paper) is not Rings or type(paper.rate) is not Rate or type(paper.left) is not tuple:
-        return False
-    if list(paper.left) != sorted(set(paper.left)) or not set(paper.left) <= set(unloaded):
-        return False
-    lot = [trips[index] for index in paper.left]
-    if not is_level(lot):
-        return False
-    rest = sum(trip.price for index, trip in trips.items() if index not in paper.left)
-    if paper.rate != Rate(rest, len(loads) // len(tour)) or set(paper.heights) != set(tour.yards):
-        return False
-    if not all(type(height) is int for height in paper.heights.values()):
-        return False
-    most = sum(max(0, trip.price + paper.heights[trip.start] - paper.heights[trip.goal]) for trip in trips.values())
-    return most == sum(trip.price for trip in lot)
-
-
-def is_level(trips):
-    return sorted(trip.start for trip in trips) == sorted(trip.goal for trip in trips)
 
 
 def cheapest(tour, loads, number):
@@ -106,7 +27,7 @@ def cheapest(tour, loads, number):
         for index in range(len(loads)):
             found = {}
             for place, whole in sums.items():
-                for cost, behind in steps(tour, loads, index, place).values():
+                for cost, behind in known_steps(tour, loads, index, place).values():
                     found[behind] = min(found.get(behind, 10 ** 9), whole + cost)
             sums = found
     tours = len(loads) // len(tour)
