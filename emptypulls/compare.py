@@ -58,7 +58,8 @@ class Lead:
         found = {}
         for ahead in ends:
             state, lead, _, _ = self.traces[ahead]
-            for load, (more, behind) in zip((False, True), self.walk.onward[state]):
+            steps = self.walk.onward[state]
+            for load, (more, behind) in zip((False, True), steps):
                 if behind not in self.marks or lead + more > self.marks[behind]:
                     self.marks[behind] = lead + more
                     found[behind] = len(self.traces)

@@ -84,7 +84,9 @@ def standings_met(duel, plan, starts):
     nodes = list(starts)
     at = 0
     while at < len(nodes):
-        for _, _, behind in duel.steps[nodes[at]][plan[nodes[at]]]:
+        standing = nodes[at]
+        steps = duel.steps[standing][plan[standing]]
+        for _, _, behind in steps:
             if behind not in met:
                 met[behind] = True
                 nodes.append(behind)

@@ -5,7 +5,7 @@ from emptypulls.duels import Duel, least_of
 from emptypulls.kinds import Twinned, are_same, copied
 from emptypulls.orders import greatest_rising
 from emptypulls.places import check_places
-from emptypulls.stands import check_stand, place_of, spares
+from emptypulls.stands import place_of, spares
 
 
 class Pulling(Twinned):
@@ -77,8 +77,6 @@ class Least(Twinned):
 
 def price_from(tour, stand):
     """The least that a puller pays from a safe stand."""
-    check_tour(tour, "tour")
-    check_stand(tour, stand)
     spare = spares(tour, stand)
     check_places(len(tour), tour, spare.whole)
     duel = Duel(tour, spare.whole)

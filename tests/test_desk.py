@@ -150,6 +150,12 @@ class LineTest(Case):
             self.assert_same(desk.ask(line), told)
         self.assertEqual(state(desk), before)
 
+    def test_each_number_of_spares(self):
+        desk = opened()
+        for number in range(7):
+            self.assert_same(desk(f"least {number}"), str(least_price(BOTH, number).rate))
+            self.assert_same(desk(f"known nl {number}"), str(known_price(BOTH, [False, True], number).rate))
+
     def test_rows_that_are_no_whole_tours(self):
         desk = opened()
         for word in ("l", "nln", "n" * 47):

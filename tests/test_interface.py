@@ -174,6 +174,25 @@ class InterfaceTest(Case):
         for _, made, told in listed():
             self.assertLessEqual(set(told["attributes"]), set(vars(MADE[made.__name__])))
 
+    def test_papers_keep_copies_of_what_they_are_made_of(self):
+        papers = [made for _, made, told in listed() if told["made"] == told["attributes"] != [] and made is not Trip]
+        self.assertEqual(len(papers), 12)
+        for made in papers:
+            names = list(inspect.signature(made).parameters)
+            parts = [[name, {name: [1]}] for name in names]
+            paper = made(*parts)
+            whole = made(*[paper for _ in names])
+            kept, again = made(*parts), made(*[paper for _ in names])
+            for part in parts:
+                part[1].clear()
+            for name in names:
+                self.assertEqual(getattr(paper, name), [name, {name: [1]}])
+            self.assertEqual(paper, kept)
+            for name in names:
+                getattr(paper, name).clear()
+            self.assertEqual(whole, again)
+            self.assertNotEqual(paper, kept)
+
     def test_objects_stay_as_they_are(self):
         rate, trip, tour = Rate(1, 2), Trip("a", "b", 5), Tour.there_and_back("a", "b", 5)
         before = [str(rate), str(trip), str(tour), tour.yards]

@@ -2,7 +2,7 @@ import random
 import unittest
 
 from checks import Case, any_values
-from driving import safe_stand, some_rules
+from driving import rule_step, safe_stand, some_rules
 from emptypulls.compare import Cheap, Dearer, never_dearer
 from emptypulls.games import Least, Pressing, Priced, Pulling, least_price, price_from
 from emptypulls.known import Known, Rings, endless_price, known_price
@@ -30,6 +30,11 @@ F, T = False, True
 
 def raising(moment):
     raise AssertionError("asked")
+
+
+def behind_both(state, load):
+    one = rule_step(BOTH, KEEP, state[:3], load)[2]
+    return (*one, *rule_step(BOTH, Always(), (state[0], *state[3:]), load)[2][1:])
 
 
 class LookingTest(Case):
@@ -142,8 +147,20 @@ class OtherRightPapersTest(Case):
         too_long = Known(paper.rate, paper.start, paper.words * (1002 // len(paper.words)), paper.heights)
         self.assertIs(len(too_long.words) > 1000, True)
         self.assertIs(Looker(RING).knowns(too_long, [F] * 3, 1), False)
+        for tour, many, is_right in ((BOTH, 500, True), (BOTH, 501, False), (BOTH, 0, False),
+                                     (RING + BOTH + BOTH, 142, True), (RING + BOTH + BOTH, 143, False)):
+            loads = [F] * len(tour)
+            told = known_price(tour, loads, 0)
+            self.assertEqual(len(told.words), len(tour))
+            self.assertIs(Looker(tour).knowns(Known(told.rate, told.start, told.words * many, told.heights), loads, 0),
+                          is_right)
         far = {key: height + BIG for key, height in paper.heights.items()}
         self.assertIs(Looker(RING).knowns(Known(paper.rate, paper.start, paper.words, far), [F] * 3, 1), True)
+
+    def test_a_lot_that_has_a_trip_twice(self):
+        paper, look = endless_price(BOTH.priced([0, 0]), [F, F]), Looker(BOTH.priced([0, 0]))
+        for left, is_right in (((), True), ((0, 1), True), ((0, 0, 1, 1), False), ((1, 0), False), ((0,), False)):
+            self.assertIs(look.endless(Rings(paper.rate, left, paper.heights), [F, F]), is_right)
 
     def test_heights_that_are_moved_far(self):
         for change in (BIG, -BIG):
@@ -217,9 +234,37 @@ class OtherRightPapersTest(Case):
         both = Worst(paper.rate, paper.row, paper.ring, {**more.heights, **paper.heights})
         self.assertIs(LOOK.worsts(both, KEEP, TWO), True)
         self.assertIs(LOOK.worsts(more, KEEP, TWO), False)
-        marks = {**never_dearer(BOTH, KEEP, Always(), Stand({"a": 2, "b": 2})).marks,
-                 **never_dearer(BOTH, KEEP, Always(), TWO).marks}
-        self.assertIs(LOOK.cheaps(Cheap(marks), KEEP, Always(), TWO), True)
+        marks = never_dearer(BOTH, KEEP, Always(), TWO).marks
+        other = never_dearer(BOTH, KEEP, Always(), Stand({"a": 2, "b": 2})).marks
+        self.assertEqual(max(other.values()), 0)
+        for change, is_right in ((0, True), (-BIG, True), (1, False), (BIG, False)):
+            both = {**{key: mark + change for key, mark in other.items()}, **marks}
+            self.assertIs(LOOK.cheaps(Cheap(both), KEEP, Always(), TWO), is_right)
+
+    def test_keys_that_are_no_states(self):
+        """At the index 0 the stands begun and now are the same, though others would lead to states, too."""
+        heights, marks = worst(BOTH, KEEP, TWO).heights, never_dearer(BOTH, KEEP, Always(), TWO).marks
+        for begun, is_right in (((1, 1), True), ((2, 0), False), ((0, 2), False)):
+            paper = worst(BOTH, KEEP, TWO)
+            more = self.with_behind((0, begun, (1, 1)), heights, lambda state, load: rule_step(BOTH, KEEP, state, load)[2])
+            told = Worst(paper.rate, paper.row, paper.ring, {**{key: BIG for key in more}, **paper.heights})
+            # Behind the added states come only those whose heights are far below theirs.
+            told.heights.update({key: BIG - 10 * key[0] for key in more if key not in heights})
+            self.assertIs(LOOK.worsts(told, KEEP, TWO), is_right)
+            for key in ((0, begun, (1, 1), (1, 1), (1, 1)), (0, (1, 1), (1, 1), begun, (1, 1))):
+                more = self.with_behind(key, marks, behind_both)
+                told = Cheap({**{key: -BIG + 200 * key[0] for key in more if key not in marks}, **marks})
+                self.assertIs(LOOK.cheaps(told, KEEP, Always(), TWO), is_right)
+
+    def with_behind(self, first, known, behind):
+        """A state and all that come behind it and are not known yet."""
+        found = [first]
+        for state in found:
+            for load in (F, T):
+                further = behind(state, load)
+                if further not in found and further not in known:
+                    found.append(further)
+        return found
 
     def test_longer_rows(self):
         paper = worst(BOTH, KEEP, TWO)
